@@ -479,11 +479,18 @@ func TestP1201NoArena(t *testing.T) {
 			h, e = Make(a, x)
 			tell(t, what+": Make", []any{h, e}, []any{0, api.ErrFull})
 		}
-		for _, h := range append(far(), 0, 1, 2) {
-			tell(t, what+": Of", of(a, h), []any{Parts{}, true})
-			empty(t, what, a, h)
-			tell(t, what+": Check of none", []bool{Check(a, h, 1), Check(a, h, 0), Check(a, h, 17)}, []bool{true, false, false})
-			tell(t, what+": Check of some", Check(a, h, 1, api.Doc{Id: 1}), false)
+		tell(t, what+": Of(0)", of(a, 0), []any{Parts{}, true})
+		empty(t, what, a, 0)
+		tell(t, what+": Check of none", []bool{Check(a, 0, 1), Check(a, 0, 0), Check(a, 0, 17)}, []bool{true, false, false})
+		tell(t, what+": Check of some", Check(a, 0, 1, api.Doc{Id: 1}), false)
+	}
+}
+
+// TestP1201NoArenaHasNoVersion: where there is no node, none is live, and each handle but 0 is none.
+func TestP1201NoArenaHasNoVersion(t *testing.T) {
+	for what, a := range map[string]*arena.Arena{"nil": nil, "zero": {}} {
+		for _, h := range append(far(), 1, 2, 5, api.MaxNodes) {
+			none(t, what, a, h)
 		}
 	}
 }
